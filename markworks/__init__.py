@@ -1,0 +1,1 @@
+"""Markworks: sets of named marks, their texts, rules, editions and packs."""

@@ -1,0 +1,55 @@
+"""[1] and the interface: what the package binds, how it is called, and that nothing hangs on chance."""
+
+import inspect
+import os
+import subprocess
+import sys
+import unittest
+
+ROOT = os.path.dirname(os.path.dirname(os.path.abspath(__file__)))
+
+SHOWN = """
+from markworks.checks import first_alias, first_gap, first_unnamed
+from markworks.kinds import Kind
+kind = Kind([("RED", 4), ("BLUE", 1), ("BOTH", ("RED", "BLUE")), ("ROT", 4), ("WIDE", 24)], rest="drop")
+print(kind.rows(), kind.names(), kind.aliases(), kind.marks(), kind.known(), kind.rest(), len(kind))
+print(first_alias(kind), first_gap(kind), first_unnamed(kind))
+"""
+
+
+def shown_by(code, seed):
+    surroundings = dict(os.environ, PYTHONPATH=ROOT, PYTHONHASHSEED=seed)
+    return subprocess.run([sys.executable, "-c", code], env=surroundings, capture_output=True, check=True).stdout
+
+
+class Package(unittest.TestCase):
+    def test_the_package_itself_binds_nothing(self):
+        code = "import markworks; print([n for n in vars(markworks) if not n.startswith('__')])"
+        self.assertEqual(shown_by(code, "0").strip(), b"[]")
+
+    def test_the_same_is_told_in_every_run(self):
+        first = shown_by(SHOWN, "0")
+        self.assertIn(b"RED", first)
+        for seed in ("1", "2", "3"):
+            self.assertEqual(shown_by(SHOWN, seed), first)
+
+
+class Arguments(unittest.TestCase):
+    def arguments(self, deed):
+        return str(inspect.signature(deed))
+
+    def test_kinds(self):
+        from markworks.kinds import Kind
+        self.assertEqual(self.arguments(Kind), "(rows, *, rest='bar')")
+        self.assertEqual(self.arguments(Kind.number), "(self, name)")
+        for deed in (Kind.rows, Kind.names, Kind.aliases, Kind.marks, Kind.known, Kind.rest):
+            self.assertEqual(self.arguments(deed), "(self)")
+
+    def test_checks(self):
+        from markworks import checks
+        for deed in (checks.first_alias, checks.first_gap, checks.first_unnamed):
+            self.assertEqual(self.arguments(deed), "(kind)")
+
+
+if __name__ == "__main__":
+    unittest.main()
