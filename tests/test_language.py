@@ -25,6 +25,11 @@ UNUSED = """
     register mro elements open input version_info with_traceback add_note attrgetter breakpoint builtins compile
     copyright credits delattr dir eval exec exit gc getattr globals hasattr help id importlib license locals
     methodcaller os quit setattr super vars sys chr format format_map""".split()
+METHODS = """
+    append clear copy count endswith extend find get index insert isalnum isalpha isdigit islower isspace isupper items
+    join keys ljust lower lstrip partition pop remove replace reverse rfind rjust rpartition rsplit rstrip setdefault
+    split splitlines startswith strip update upper values zfill bit_length""".split()
+VALUES = "count index title find get join lower upper split strip copy add".split()
 
 
 def row_faults(text):
@@ -116,10 +121,34 @@ def faults(text):
     return found
 
 
+def hidden_names(text):
+    """L15: parameters and locals that are called like a class or an import of their file."""
+    tree = ast.parse(text)
+    taken = [drawn.name for row in tree.body if isinstance(row, ast.ImportFrom) for drawn in row.names]
+    taken += [row.name for row in tree.body if isinstance(row, ast.ClassDef)]
+    given = [node.id for node in ast.walk(tree) if isinstance(node, ast.Name) and isinstance(node.ctx, ast.Store)]
+    given += [node.arg for node in ast.walk(tree) if isinstance(node, ast.arg)]
+    return sorted(set(taken) & set(given))
+
+
+def drawn_from(text):
+    return [row.module.split(".")[-1] + ".py" for row in ast.parse(text).body if isinstance(row, ast.ImportFrom)]
+
+
+def asked(tree):
+    """The names of all methods that are called, and of all values that are asked."""
+    calls = [node.func for node in ast.walk(tree) if isinstance(node, ast.Call)]
+    methods = [func.attr for func in calls if isinstance(func, ast.Attribute)]
+    values = [node.attr for node in ast.walk(tree) if isinstance(node, ast.Attribute) and node not in calls
+              and isinstance(node.ctx, ast.Load)]
+    return methods, values
+
+
 def methods_and_values(tree):
     methods = [row.name for node in ast.walk(tree) if isinstance(node, ast.ClassDef) for row in node.body
                if isinstance(row, ast.FunctionDef)]
-    given = [node.attr for node in ast.walk(tree) if isinstance(node, ast.Attribute) and isinstance(node.ctx, ast.Store)]
+    given = [node.attr for node in ast.walk(tree) if isinstance(node, ast.Attribute)
+             and isinstance(node.ctx, ast.Store)]
     return methods, given
 
 
@@ -162,6 +191,45 @@ class Language(unittest.TestCase):
             given += more[1]
         self.assertEqual(sorted(set(methods) & set(given)), [])
 
+    def test_methods_and_values_that_are_asked_are_there(self):
+        """L18, L25."""
+        trees = [ast.parse(text) for text in read_all().values()]
+        methods = [name for tree in trees for name in methods_and_values(tree)[0]]
+        given = [name for tree in trees for name in methods_and_values(tree)[1]]
+        for tree in trees:
+            self.assertEqual(sorted(set(asked(tree)[0]) - set(methods) - set(METHODS)), [])
+            self.assertEqual(sorted(set(asked(tree)[1]) - set(given)), [])
+
+    def test_own_methods_and_values_have_free_names(self):
+        """L26."""
+        taken = {name for kind in (str, int, list, dict, set, bytes) for name in dir(kind)} | {"is_integer", "args"}
+        for name, text in read_all().items():
+            methods, given = methods_and_values(ast.parse(text))
+            self.assertEqual(sorted(set(methods) & taken - set(METHODS) - set(DOUBLE) - {"add", "discard"}), [], name)
+            self.assertEqual(sorted(set(given) & taken - set(VALUES)), [], name)
+
+    def test_no_parameter_or_local_hides_a_class_or_an_import(self):
+        for name, text in read_all().items():
+            self.assertEqual(hidden_names(text), [], name)
+
+    def test_no_two_files_draw_from_one_another(self):
+        """L16: files that draw from none but those already set aside are set aside, until none is left."""
+        left = {name: drawn_from(text) for name, text in read_all().items()}
+        while left:
+            free = [name for name, sources in left.items() if not set(sources) & set(left)]
+            self.assertNotEqual(free, [], left)
+            left = {name: sources for name, sources in left.items() if name not in free}
+
+    def test_len_and_init_return_as_told(self):
+        """L28."""
+        for name, text in read_all().items():
+            for node in ast.walk(ast.parse(text)):
+                returns = [row.value for row in ast.walk(node) if isinstance(row, ast.Return)]
+                if isinstance(node, ast.FunctionDef) and node.name == "__init__":
+                    self.assertEqual(returns, [], name)
+                if isinstance(node, ast.FunctionDef) and node.name == "__len__":
+                    self.assertEqual([value.func.id for value in returns], ["len"], name)
+
 
 class TheCheckItself(unittest.TestCase):
     def test_it_finds_what_is_barred(self):
@@ -176,6 +244,15 @@ class TheCheckItself(unittest.TestCase):
                 ("def f():\n    yield 1\n", "L7"), ("x = f'{y:3}'\n", "L7"), ("def f(min):\n    pass\n", "L15")):
             with self.subTest(text=text):
                 self.assertIn(number, [fault.split()[0] for fault in faults(text)])
+
+    def test_it_finds_hidden_names(self):
+        self.assertEqual(hidden_names("from a.b import c, d\ndef f(c):\n    d = c\n    return d\n"), ["c", "d"])
+        self.assertEqual(hidden_names("class A:\n    pass\ndef f(b):\n    A = b\n"), ["A"])
+        self.assertEqual(hidden_names("from a.b import c\ndef f(d):\n    return c(d)\n"), [])
+
+    def test_it_finds_what_is_asked(self):
+        self.assertEqual(asked(ast.parse("a.b(c.d)\ne.f = 1\n")), (["b"], ["d"]))
+        self.assertEqual(asked(ast.parse("e.f = g.h().i\n")), (["h"], ["i"]))
 
     def test_it_lets_by_what_is_allowed(self):
         text = "def f(a, *, b=1):\n    return [x for x in a if x is not None and x ** 2 > b]\n"

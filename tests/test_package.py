@@ -10,10 +10,15 @@ ROOT = os.path.dirname(os.path.dirname(os.path.abspath(__file__)))
 
 SHOWN = """
 from markworks.checks import first_alias, first_gap, first_unnamed
+from markworks.formulas import alike, letters, reckoned
 from markworks.kinds import Kind
+from markworks.values import by_names, value_of
 kind = Kind([("RED", 4), ("BLUE", 1), ("BOTH", ("RED", "BLUE")), ("ROT", 4), ("WIDE", 24)], rest="drop")
 print(kind.rows(), kind.names(), kind.aliases(), kind.marks(), kind.known(), kind.rest(), len(kind))
 print(first_alias(kind), first_gap(kind), first_unnamed(kind))
+value = value_of(kind, ["ROT", "WIDE"])
+print(value.number(), value.marks(), value.rest(), by_names(value))
+print(letters("c|b&a|z"), reckoned(kind, "~(a|RED)", {"a": 8}).marks(), alike(kind, "c|b&a", "(c|b)&z"))
 """
 
 
@@ -49,6 +54,24 @@ class Arguments(unittest.TestCase):
         from markworks import checks
         for deed in (checks.first_alias, checks.first_gap, checks.first_unnamed):
             self.assertEqual(self.arguments(deed), "(kind)")
+
+    def test_values(self):
+        from markworks import values
+        self.assertEqual(self.arguments(values.Value), "(kind, number)")
+        for deed in (values.Value.number, values.Value.kind, values.Value.marks, values.Value.rest):
+            self.assertEqual(self.arguments(deed), "(self)")
+        self.assertEqual(self.arguments(values.made), "(kind, number)")
+        self.assertEqual(self.arguments(values.value_of), "(kind, names)")
+        for deed in (values.union, values.share, values.unlike, values.without, values.within):
+            self.assertEqual(self.arguments(deed), "(one, other)")
+        self.assertEqual(self.arguments(values.turned), "(one)")
+        self.assertEqual(self.arguments(values.by_names), "(value)")
+
+    def test_formulas(self):
+        from markworks import formulas
+        self.assertEqual(self.arguments(formulas.reckoned), "(kind, text, table)")
+        self.assertEqual(self.arguments(formulas.letters), "(text)")
+        self.assertEqual(self.arguments(formulas.alike), "(kind, one, other)")
 
 
 if __name__ == "__main__":
