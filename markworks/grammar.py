@@ -24,16 +24,16 @@ def is_figures(text):
     return is_number(int(text))
 
 
-def is_part(text):
-    """Whether a text is a name, a letter or a number."""
-    return is_letter(text) or is_name(text) or is_figures(text)
+def is_part(text, lettered):
+    """Whether a text is a name or a number, or, where they may stand, a letter."""
+    return is_name(text) or is_figures(text) or lettered and is_letter(text)
 
 
-def part_end(text, at):
-    """Where the longest name, letter or number ends that begins at a place; the place itself, if none does."""
+def part_end(text, at, lettered):
+    """Where the longest name, number or letter ends that begins at a place; the place itself, if none does."""
     # Whatever a part begins with is such a part itself, so it may be lengthened sign by sign.
     end = at
-    while end < len(text) and is_part(text[at:end + 1]):
+    while end < len(text) and is_part(text[at:end + 1], lettered):
         end += 1
     return end
 
@@ -95,14 +95,14 @@ class Reading:
         return not self.wants_part and len(self.waiting) == 0
 
 
-def steps_of(text):
-    """The steps of a formula, a list of its parts and of each sign behind what it works on; BadText."""
+def steps_of(text, *, lettered=True):
+    """The steps of a formula, with letters or without: its parts, and each sign behind what it works on; BadText."""
     if not isinstance(text, str):
         raise BadText(None)
     reading = Reading()
     at = 0
     while at < len(text):
-        end = part_end(text, at) if reading.wants_part else at
+        end = part_end(text, at, lettered) if reading.wants_part else at
         if end > at:
             reading.take_part(text[at:end])
             at = end

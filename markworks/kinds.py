@@ -33,6 +33,20 @@ def union_of(numbers):
     return bits
 
 
+def unions_of(marks):
+    """The unions of all choices of a rising list of marks' numbers, rising."""
+    unions = [0]
+    for mark in marks:
+        unions = unions + [bits | mark for bits in unions]
+    return unions
+
+
+def is_one_of(thing, names):
+    """Whether a thing is one of some names."""
+    # What is no text may be no key either, so it is sorted out before it is looked up.
+    return isinstance(thing, str) and thing in names
+
+
 def mark_bits(kind):
     """The bits of a kind that are marks."""
     return union_of([number for name, number in kind.marks()])
@@ -45,8 +59,7 @@ def next_mark(numbers):
 
 def is_names_of(parts, ahead):
     """Whether a tuple holds names of the rows ahead alone, one at least."""
-    # What is no text may be no key either, so it is sorted out before it is looked up.
-    return len(parts) > 0 and all([isinstance(part, str) and part in ahead for part in parts])
+    return len(parts) > 0 and all([is_one_of(part, ahead) for part in parts])
 
 
 def thing_number(thing, ahead):
@@ -99,7 +112,7 @@ class Kind:
 
     def __init__(self, rows, *, rest="bar"):
         self.numbers = numbered(rows)
-        if not isinstance(rest, str) or rest not in RULES:
+        if not is_one_of(rest, RULES):
             raise BadRule("the rule is none of bar, drop, keep, leave")
         self.firsts = first_names(self.numbers)
         self.rule = rest
@@ -110,7 +123,7 @@ class Kind:
 
     def number(self, name):
         """The number of a name, be it an alias or not; BadName."""
-        if not isinstance(name, str) or name not in self.numbers:
+        if not is_one_of(name, self.numbers):
             raise BadName("the kind has no such name")
         return self.numbers[name]
 

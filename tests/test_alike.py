@@ -3,12 +3,11 @@
 import itertools
 import unittest
 
-from markworks.errors import BadName, BadText, MarkError
+from helper import RULES, TOP, Refusing
+from markworks.errors import BadName, BadText
 from markworks.formulas import alike, reckoned
 from markworks.kinds import Kind
 
-TOP = 2 ** 40 - 1
-RULES = ("bar", "drop", "keep", "leave")
 # 2 and all from 32 on is not known.
 ROWS = [("A", 1), ("RED", 4), ("WIDE", 24), ("NIL", 0), ("ROT", 4)]
 KNOWN = 29
@@ -35,13 +34,7 @@ def letters_of(*texts):
     return sorted({sign for text in texts for sign in text if sign.islower()})
 
 
-class Refusing(unittest.TestCase):
-    def refused(self, refusal, *things):
-        with self.assertRaises(MarkError) as caught:
-            alike(*things)
-        self.assertIs(type(caught.exception), refusal)
-        return caught.exception
-
+class Parting(Refusing):
     def parted(self, kind, one, other):
         """The formulas are told as unlike, by a table of all their letters and of known bits that shows it."""
         table = alike(kind, one, other)
@@ -55,7 +48,7 @@ class Refusing(unittest.TestCase):
         self.assertNotEqual(reckoned(keeps, one, table).number(), reckoned(keeps, other, table).number())
 
 
-class Alike(Refusing):
+class Alike(Parting):
     def test_by_known_rules_of_sets(self):
         for rule in RULES:
             for one, other in ALIKE:
@@ -134,7 +127,7 @@ class Alike(Refusing):
 class Refused(Refusing):
     def bad_text(self, one, other, at):
         with self.subTest(one=one, other=other):
-            told = self.refused(BadText, Kind(ROWS), one, other).at
+            told = self.refused(BadText, alike, Kind(ROWS), one, other).at
             self.assertIs(type(told), type(at))
             self.assertEqual(told, at)
 
@@ -162,7 +155,7 @@ class Refused(Refusing):
         for one, other in (("GREEN", "a"), ("a", "GREEN"), ("GREEN", "GREEN"), ("0&B", "0"), ("1", "2|(~B)"),
                            ("a|b", "a&b&R")):
             with self.subTest(one=one, other=other):
-                self.refused(BadName, Kind(ROWS), one, other)
+                self.refused(BadName, alike, Kind(ROWS), one, other)
 
 
 if __name__ == "__main__":

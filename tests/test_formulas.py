@@ -2,16 +2,13 @@
 
 import copy
 import itertools
-import re
 import unittest
 
-from markworks.errors import BadName, BadNumber, BadRest, BadText, MarkError
+from helper import RULES, TOP, Refusing, wrong_place
+from markworks.errors import BadName, BadNumber, BadText, MarkError
 from markworks.formulas import letters, reckoned
 from markworks.kinds import Kind
-from markworks.values import Value
 
-TOP = 2 ** 40 - 1
-RULES = ("bar", "drop", "keep", "leave")
 # 2 and all from 32 on is not known.
 ROWS = [("A", 1), ("RED", 4), ("WIDE", 24), ("NIL", 0), ("ROT", 4), ("LONGER", ("A", "RED"))]
 KNOWN = 29
@@ -19,40 +16,7 @@ KEEP = Kind(ROWS, rest="keep")
 NO_TEXTS = (None, True, False, 0, 1, -1, (), ("a",), [], ["a"], {}, {"a": 1}, b"a", 1.0, object())
 
 
-def is_formula(text):
-    """By the words of [32]: parts stand for P, and what stands for a part is put in its stead until P alone is left."""
-    text = re.sub("[A-Z]+", lambda found: "P" if len(found[0]) <= 6 else "X", text)
-    text = re.sub("[a-z]", "P", text)
-    text = re.sub("[0-9]+", lambda found: "P" if found[0] == str(int(found[0])) and int(found[0]) <= TOP else "X", text)
-    before = None
-    while text != before:
-        before = text
-        text = re.sub(r"~ *P|P *[&^|] *P|\( *P *\)", "P", text)
-    return text.strip(" ") == "P"
-
-
-def is_beginning(text):
-    """Whether a formula begins with a text: what is left out is at most a part and the closing brackets."""
-    return any(is_formula(text + part + ")" * many) for part in ("", "0") for many in range(len(text) + 1))
-
-
-def wrong_place(text):
-    """The place that BadText is to tell, or None of a formula."""
-    if is_formula(text):
-        return None
-    for at in range(len(text)):
-        if not is_beginning(text[:at + 1]):
-            return at
-    return len(text)
-
-
-class Refusing(unittest.TestCase):
-    def refused(self, refusal, deed, *things):
-        with self.assertRaises(MarkError) as caught:
-            deed(*things)
-        self.assertIs(type(caught.exception), refusal)
-        return caught.exception
-
+class Reading(Refusing):
     def bad_text(self, text, at):
         with self.subTest(text=text):
             for told in (self.refused(BadText, letters, text),
@@ -62,10 +26,7 @@ class Refusing(unittest.TestCase):
 
     def comes_to(self, text, number, table=(), kind=KEEP):
         with self.subTest(text=text):
-            told = reckoned(kind, text, dict(table))
-            self.assertIs(type(told), Value)
-            self.assertEqual(told.kind(), kind)
-            self.assertEqual(told.number(), number)
+            self.is_value(reckoned(kind, text, dict(table)), kind, number)
 
 
 class Letters(unittest.TestCase):
@@ -85,7 +46,7 @@ class Letters(unittest.TestCase):
         self.assertEqual(letters("a|b"), ["a", "b"])
 
 
-class Signs(Refusing):
+class Signs(Reading):
     TABLE = {"a": 12, "b": 10, "c": 6, "x": TOP, "z": 0}
 
     def test_parts_alone(self):
@@ -196,19 +157,16 @@ class Bits:
         return Bits({at for at in self.known if at not in self.bits}, self.known)
 
 
-class Rests(Refusing):
+class Rests(Reading):
     def test_what_comes_at_last_goes_by_the_rule(self):
         for text, number in (("2", 2), ("a", 2 ** 39), ("RED|2", 6), ("x&34", 34), (str(TOP), TOP),
                              ("~0^x", TOP - KNOWN)):
             table = {"a": 2 ** 39, "x": TOP}
             with self.subTest(text=text):
-                told = self.refused(BadRest, reckoned, Kind(ROWS), text, table)
-                self.assertIs(type(told.bits), int)
-                self.assertEqual(told.bits, number & ~KNOWN)
+                self.barred(number & ~KNOWN, reckoned, Kind(ROWS), text, table)
                 self.comes_to(text, number & KNOWN, table, Kind(ROWS, rest="drop"))
                 self.comes_to(text, number, table, Kind(ROWS, rest="keep"))
-                left = reckoned(Kind(ROWS, rest="leave"), text, table)
-                self.assertEqual((type(left), left), (int, number))
+                self.is_left(reckoned(Kind(ROWS, rest="leave"), text, table), number)
 
     def test_only_what_comes_at_last(self):
         for rule in RULES:
@@ -222,7 +180,7 @@ class Rests(Refusing):
         self.comes_to("(2|1)^2", 1, (), Kind(ROWS, rest="leave"))
 
 
-class WrongTexts(Refusing):
+class WrongTexts(Reading):
     def test_no_text(self):
         for thing in NO_TEXTS:
             self.bad_text(thing, None)
@@ -293,7 +251,7 @@ class WrongTexts(Refusing):
         self.check_all("a~|()", 6)
 
 
-class WrongTables(Refusing):
+class WrongTables(Reading):
     def bad_number(self, text, table):
         with self.subTest(text=text, table=table):
             self.refused(BadNumber, reckoned, KEEP, text, table)
@@ -341,7 +299,7 @@ class WrongTables(Refusing):
             self.assertEqual(list(table.items()), list(before.items()))
 
 
-class Order(Refusing):
+class Order(Reading):
     BARS = Kind(ROWS)
 
     def test_names_that_the_kind_has_not(self):
@@ -359,7 +317,7 @@ class Order(Refusing):
             self.refused(BadNumber, reckoned, self.BARS, "2|a", table)
         self.refused(BadName, reckoned, self.BARS, "GREEN|2|a", {"a": 2})
         self.refused(BadName, reckoned, self.BARS, "2|a|GREEN", {"a": 2})
-        self.assertEqual(self.refused(BadRest, reckoned, self.BARS, "RED|2|a", {"a": 34}).bits, 34)
+        self.barred(34, reckoned, self.BARS, "RED|2|a", {"a": 34})
 
 
 if __name__ == "__main__":

@@ -10,8 +10,11 @@ ROOT = os.path.dirname(os.path.dirname(os.path.abspath(__file__)))
 
 SHOWN = """
 from markworks.checks import first_alias, first_gap, first_unnamed
+from markworks.editions import Edition
 from markworks.formulas import alike, letters, reckoned
 from markworks.kinds import Kind
+from markworks.rules import Rule
+from markworks.texts import read, text_of
 from markworks.values import by_names, value_of
 kind = Kind([("RED", 4), ("BLUE", 1), ("BOTH", ("RED", "BLUE")), ("ROT", 4), ("WIDE", 24)], rest="drop")
 print(kind.rows(), kind.names(), kind.aliases(), kind.marks(), kind.known(), kind.rest(), len(kind))
@@ -19,6 +22,12 @@ print(first_alias(kind), first_gap(kind), first_unnamed(kind))
 value = value_of(kind, ["ROT", "WIDE"])
 print(value.number(), value.marks(), value.rest(), by_names(value))
 print(letters("c|b&a|z"), reckoned(kind, "~(a|RED)", {"a": 8}).marks(), alike(kind, "c|b&a", "(c|b)&z"))
+print(text_of(value), read(kind, "~RED|4").number())
+rule = Rule(kind, needs=[("RED", "BLUE")])
+print(rule.fault(value), rule.mended(value).marks(), rule.count(), rule.never(), rule.always("RED"))
+edition = Edition(kind, kind, [("RED", ("BOTH", "ROT")), ("BLUE", ("BLUE",))])
+print(edition.pairs(), edition.behind(edition).pairs(), edition.led(value).marks())
+print([mixed.number() for mixed in edition.first_mixed()], edition.first_unled(rule, rule))
 """
 
 
@@ -72,6 +81,30 @@ class Arguments(unittest.TestCase):
         self.assertEqual(self.arguments(formulas.reckoned), "(kind, text, table)")
         self.assertEqual(self.arguments(formulas.letters), "(text)")
         self.assertEqual(self.arguments(formulas.alike), "(kind, one, other)")
+
+    def test_texts(self):
+        from markworks import texts
+        self.assertEqual(self.arguments(texts.text_of), "(value)")
+        self.assertEqual(self.arguments(texts.read), "(kind, text)")
+
+    def test_rules(self):
+        from markworks.rules import Rule
+        self.assertEqual(self.arguments(Rule), "(kind, *, needs=(), bars=())")
+        for deed in (Rule.lets, Rule.fault, Rule.grown, Rule.shrunk, Rule.mended, Rule.place):
+            self.assertEqual(self.arguments(deed), "(self, value)")
+        for deed in (Rule.count, Rule.never):
+            self.assertEqual(self.arguments(deed), "(self)")
+        self.assertEqual(self.arguments(Rule.nth), "(self, number)")
+        self.assertEqual(self.arguments(Rule.always), "(self, name)")
+
+    def test_editions(self):
+        from markworks.editions import Edition
+        self.assertEqual(self.arguments(Edition), "(kind, other, pairs)")
+        for deed in (Edition.kind, Edition.other, Edition.first_mixed, Edition.pairs):
+            self.assertEqual(self.arguments(deed), "(self)")
+        self.assertEqual(self.arguments(Edition.led), "(self, value)")
+        self.assertEqual(self.arguments(Edition.first_unled), "(self, rule, other_rule)")
+        self.assertEqual(self.arguments(Edition.behind), "(self, edition)")
 
 
 if __name__ == "__main__":

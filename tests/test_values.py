@@ -4,12 +4,11 @@ import copy
 import itertools
 import unittest
 
-from markworks.errors import BadName, BadNumber, BadRest, MarkError, Unlike
+from helper import RULES, TOP, Refusing
+from markworks.errors import BadName, BadNumber, Unlike
 from markworks.kinds import Kind
 from markworks.values import (Value, by_names, made, share, turned, union, unlike, value_of, within, without)
 
-TOP = 2 ** 40 - 1
-RULES = ("bar", "drop", "keep", "leave")
 # Aliases of a mark, of a union and of 0; a mark told behind a greater one; bits (16, 64) that are known and no marks.
 ROWS = [("RED", 4), ("NONE", 0), ("BLUE", 1), ("VIOLET", ("RED", "BLUE")), ("ROT", ("RED",)), ("WIDE", 24),
         ("NIL", 0), ("PURPLE", 5), ("LAST", 8), ("FAR", 80)]
@@ -19,25 +18,6 @@ NO_NUMBERS = (True, False, None, "", "1", "RED", (), (1,), [], [1], {}, {1: 1}, 
 
 def kind_by(rule):
     return Kind(ROWS, rest=rule)
-
-
-class Refusing(unittest.TestCase):
-    def refused(self, refusal, deed, *things):
-        with self.assertRaises(MarkError) as caught:
-            deed(*things)
-        self.assertIs(type(caught.exception), refusal)
-        return caught.exception
-
-    def barred(self, bits, deed, *things):
-        told = self.refused(BadRest, deed, *things).bits
-        self.assertIs(type(told), int)
-        self.assertEqual(told, bits)
-
-    def is_value(self, thing, kind, number):
-        self.assertIs(type(thing), Value)
-        self.assertEqual(thing.kind(), kind)
-        self.assertIs(type(thing.number()), int)
-        self.assertEqual(thing.number(), number)
 
 
 class Told(Refusing):
