@@ -9,11 +9,15 @@ import unittest
 ROOT = os.path.dirname(os.path.dirname(os.path.abspath(__file__)))
 
 SHOWN = """
+from markworks.books import Book
 from markworks.checks import first_alias, first_gap, first_unnamed
 from markworks.editions import Edition
 from markworks.formulas import alike, letters, reckoned
 from markworks.kinds import Kind
+from markworks.packs import Pack
 from markworks.rules import Rule
+from markworks.saving import saved
+from markworks.seals import broken, first_retold, gone_on
 from markworks.texts import read, text_of
 from markworks.values import by_names, value_of
 kind = Kind([("RED", 4), ("BLUE", 1), ("BOTH", ("RED", "BLUE")), ("ROT", 4), ("WIDE", 24)], rest="drop")
@@ -28,6 +32,16 @@ print(rule.fault(value), rule.mended(value).marks(), rule.count(), rule.never(),
 edition = Edition(kind, kind, [("RED", ("BOTH", "ROT")), ("BLUE", ("BLUE",))])
 print(edition.pairs(), edition.behind(edition).pairs(), edition.led(value).marks())
 print([mixed.number() for mixed in edition.first_mixed()], edition.first_unled(rule, rule))
+more = gone_on(kind, [("LAST", None), ("ALL", ("LAST", "BOTH"))])
+print(more.rows(), broken(more, kind), first_retold(more, kind))
+pack = Pack([kind, more])
+print(pack.widths(), pack.packed(pack.unpacked(1023)))
+book = Book(kind)
+for name in ("z", "b", "long", "a"):
+    book.put(name, ["BOTH"])
+book.turn("b")
+book.reckon("long", "a & ~b | z")
+print(book.names(), book.having(["RED"]), book.changes("b"), saved(book))
 """
 
 
@@ -105,6 +119,39 @@ class Arguments(unittest.TestCase):
         self.assertEqual(self.arguments(Edition.led), "(self, value)")
         self.assertEqual(self.arguments(Edition.first_unled), "(self, rule, other_rule)")
         self.assertEqual(self.arguments(Edition.behind), "(self, edition)")
+
+    def test_seals(self):
+        from markworks import seals
+        self.assertEqual(self.arguments(seals.broken), "(kind, other)")
+        self.assertEqual(self.arguments(seals.gone_on), "(kind, rows)")
+        self.assertEqual(self.arguments(seals.first_retold), "(kind, other)")
+
+    def test_packs(self):
+        from markworks.packs import Pack
+        self.assertEqual(self.arguments(Pack), "(kinds)")
+        self.assertEqual(self.arguments(Pack.widths), "(self)")
+        self.assertEqual(self.arguments(Pack.packed), "(self, values)")
+        self.assertEqual(self.arguments(Pack.unpacked), "(self, number)")
+        self.assertEqual(self.arguments(Pack.put), "(self, number, at, value)")
+
+    def test_books(self):
+        from markworks.books import Book
+        self.assertEqual(self.arguments(Book), "(kind)")
+        for deed in (Book.turn, Book.drop, Book.value, Book.changes):
+            self.assertEqual(self.arguments(deed), "(self, name)")
+        for deed in (Book.take_back, Book.kind, Book.names):
+            self.assertEqual(self.arguments(deed), "(self)")
+        self.assertEqual(self.arguments(Book.put), "(self, name, names)")
+        self.assertEqual(self.arguments(Book.mark), "(self, name, more)")
+        self.assertEqual(self.arguments(Book.unmark), "(self, name, less)")
+        self.assertEqual(self.arguments(Book.reckon), "(self, name, text)")
+        self.assertEqual(self.arguments(Book.having), "(self, names)")
+        self.assertEqual(self.arguments(Book.lead), "(self, edition)")
+
+    def test_saving(self):
+        from markworks import saving
+        self.assertEqual(self.arguments(saving.saved), "(book)")
+        self.assertEqual(self.arguments(saving.woken), "(text)")
 
 
 if __name__ == "__main__":
